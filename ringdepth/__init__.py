@@ -1,0 +1,1 @@
+"""Ringdepth: how deep a wish for ever is."""
