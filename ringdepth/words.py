@@ -1,8 +1,8 @@
 """Endless words, told by a begin and a lap."""
 
 from ringdepth.basics import is_text
-from ringdepth.checks import check_number
-from ringdepth.errors import InvalidText, TooMany
+from ringdepth.checks import check_number, is_text_over
+from ringdepth.errors import InvalidText, InvalidWord, TooMany
 
 
 class Word:
@@ -50,8 +50,6 @@ class Word:
     def __radd__(self, other):
         if not is_text(other):
             raise InvalidText(other)
-        if len(other) + len(self._begin) > Word.MOST_LETTERS:
-            raise TooMany("letters", Word.MOST_LETTERS)
         return Word(other + self._begin, self._lap)
 
     def __eq__(self, other):
@@ -112,3 +110,14 @@ def _plain(begin, lap):
         spare = spare + 1
     turn = len(short) - spare % len(short)
     return begin[:len(begin) - spare], short[turn:] + short[:turn]
+
+
+def is_word_over(value, letters):
+    """Whether a value is a Word in which no other letters than these come."""
+    return isinstance(value, Word) and is_text_over(value.coming(), letters)
+
+
+def check_word(value, letters):
+    """Raises InvalidWord unless the value is a Word in which no other letters than these come."""
+    if not is_word_over(value, letters):
+        raise InvalidWord(value)

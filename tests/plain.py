@@ -71,3 +71,102 @@ def plain_telling(begin, lap):
             if told(shown[:begins], shown[begins:begins + laps], len(shown)) == shown:
                 return shown[:begins], shown[begins:begins + laps]
     raise AssertionError("no telling")
+
+
+def goes(rows, letters, place, text):
+    """Where a text leads, letter by letter."""
+    for letter in text:
+        place = rows[place][letters.index(letter)]
+    return place
+
+
+def come_to(rows, start=0):
+    """The set of the places that are come to from start, by adding goals until none is new."""
+    met = {start}
+    while True:
+        more = met | {goal for place in met for goal in rows[place]}
+        if more == met:
+            return met
+        met = more
+
+
+def least_texts(rows, letters, start=0):
+    """The dict from each place that is come to from start to the least text, by trying all texts in sequence."""
+    many = len(come_to(rows, start))
+    found = {}
+    for text in texts(letters, len(rows) - 1):
+        found.setdefault(goes(rows, letters, start, text), text)
+        if len(found) == many:
+            return found
+    raise AssertionError("a place is lost")
+
+
+def numbered(rows, letters, start=0):
+    """The list of the places numbered as come to, and their rows: places by their least texts."""
+    order = list(least_texts(rows, letters, start))
+    return order, [[order.index(goal) for goal in rows[place]] for place in order]
+
+
+def met(rows, letters, begin, lap, start=0):
+    """The sorted tuple of the places that are met, by walking laps until the walk must be in its circle."""
+    place = goes(rows, letters, start, begin + lap * len(rows))
+    found = set()
+    for letter in lap * len(rows):
+        place = rows[place][letters.index(letter)]
+        found.add(place)
+    return tuple(sorted(found))
+
+
+def within(rows, inside, start):
+    """The set of the places to which one or more steps lead from start through places inside alone."""
+    found = set()
+    while True:
+        more = {goal for place in found | {start} for goal in rows[place] if goal in inside}
+        if more <= found:
+            return found
+        found = found | more
+
+
+def is_ring(rows, places):
+    """Whether a set of places is a ring: each of them leads to each of them within it."""
+    return bool(places) and all(within(rows, set(places), place) == set(places) for place in places)
+
+
+def rings(rows):
+    """The sorted list of all rings, by trying all sets of places."""
+    found = []
+    for taken in product([False, True], repeat=len(rows)):
+        places = tuple(place for place, is_in in enumerate(taken) if is_in)
+        if is_ring(rows, places):
+            found.append(places)
+    return sorted(found)
+
+
+def greatest(found):
+    """The sorted list of the rings among some that lie in no greater one of them."""
+    return sorted(ring for ring in found if not any(set(ring) < set(other) for other in found))
+
+
+def pairs(one_rows, other_rows):
+    """The rows of all pairs of places, each pair told by its place in the list of all pairs; and this list."""
+    listed = [(one, other) for one in range(len(one_rows)) for other in range(len(other_rows))]
+    rows = [[listed.index(goals) for goals in zip(one_rows[one], other_rows[other])] for one, other in listed]
+    return rows, listed
+
+
+def joint(one_rows, other_rows):
+    """The sorted list of the joint rings, by trying all sets of those pairs that are come to."""
+    rows, listed = pairs(one_rows, other_rows)
+    kept = sorted(come_to(rows))
+    found = set()
+    for taken in product([False, True], repeat=len(kept)):
+        places = [place for place, is_in in zip(kept, taken) if is_in]
+        if is_ring(rows, places):
+            found.add((tuple(sorted({listed[place][0] for place in places})),
+                       tuple(sorted({listed[place][1] for place in places}))))
+    return sorted(found)
+
+
+def words(letters, begins, laps):
+    """All begins and laps of at most so many letters."""
+    return [(begin, lap) for begin in texts(letters, begins) for lap in texts(letters, laps) if lap]

@@ -47,6 +47,12 @@ class BasicsTest(unittest.TestCase):
             for value in [sign, "a" + sign, sign + "z", "a" + sign + "z"]:
                 self.assertIs(is_text(value), expected, repr(value))
 
+    def test_letters_of_other_alphabets(self):
+        for sign in "\u00e4\u00df\u03b1\u0430\u00aa":
+            for value in [sign, "a" + sign]:
+                self.assertIs(is_text(value), False)
+                self.assertIs(are_letters(value), False)
+
     def test_other_values_are_no_texts(self):
         for value in [None, 1, True, b"a", b"", ["a"], ("a", "b"), [], {"a": 1}]:
             self.assertIs(is_text(value), False)

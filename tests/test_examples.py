@@ -6,11 +6,37 @@ import unittest
 
 README = pathlib.Path(__file__).resolve().parent.parent / "README.md"
 
-WORDS = """
+DOCUMENT = """
+>>> from ringdepth.machines import Machine, paired
 >>> from ringdepth.words import Word
 >>> word = Word("ab", "bab")
 >>> [word, word[4], word.first(5), word.behind(2), "a" + word, word.again(), word.common(Word.of("ab"))]
 [Word('', 'abb'), 'b', 'abbab', Word('', 'bab'), Word('a', 'abb'), 'ab', 2]
+>>> last = Machine("ab", [[0, 1], [0, 1]])
+>>> [last.walk("abb"), last.met(word), last.met(Word("ab", "a")), last.first_text(1), last.at(1)]
+[[0, 0, 1, 1], (0, 1), (0,), 'b', Machine('ab', [[1, 0], [1, 0]])]
+>>> paired(last, Machine("ab", [[1, 0], [0, 1]]))
+(Machine('ab', [[1, 2], [0, 3], [1, 2], [0, 3]]), [(0, 0), (0, 1), (1, 0), (1, 1)])
+
+>>> from ringdepth.rings import inner_parts, is_lap, joined_ring, leads, parts, passed, rings, word_of
+>>> [rings(last), parts(last), joined_ring(last, (0,), (0, 1)), joined_ring(last, (0,), (1,))]
+[[(0,), (0, 1), (1,)], [(0, 1)], (0, 1), None]
+>>> once = Machine("ab", [[1, 0], [1, 1]])
+>>> [parts(once), inner_parts(last, [1]), leads(once, (0,), (1,)), leads(once, (1,), (0,)), passed(Machine("ab", [[1, 1], [1, 1]]))]
+[[(0,), (1,)], [(1,)], True, False, [0]]
+>>> [is_lap(last, (0, 1), 0, "ba"), is_lap(last, (0, 1), 0, "a"), last.met(word_of(last, (1,)))]
+[True, False, (1,)]
+
+>>> from ringdepth.same import beyond, classes, is_same, joint
+>>> from ringdepth.wishes import Wish
+>>> both = Wish(last, [[1, 0], []])
+>>> [both, both(Word("", "ab")), both(Word("ab", "b")), both[(0,)], (~both).good()]
+[Wish(Machine('ab', [[0, 1], [0, 1]]), [(0, 1)]), True, False, False, [(0,), (1,)]]
+>>> infinite = Wish(last, [[0], [0, 1]])
+>>> [both.is_within(infinite), beyond(both, infinite), infinite.is_within(both), joint(both, infinite), classes(infinite)]
+[True, None, False, [((0,), (0,)), ((0, 1), (0, 1)), ((1,), (1,))], [[0, 1]]]
+>>> [infinite - both, both.at(1), is_same(both.at(1), both)]
+[Wish(Machine('ab', [[0, 1], [0, 1]]), [(0,)]), Wish(Machine('ab', [[1, 0], [1, 0]]), [(0, 1)]), True]
 """
 
 
@@ -23,8 +49,8 @@ def failures(text, name):
 
 class ExamplesTest(unittest.TestCase):
 
-    def test_words(self):
-        self.assertEqual(failures(WORDS, "words"), (0, 3))
+    def test_document(self):
+        self.assertEqual(failures(DOCUMENT, "document"), (0, 19))
 
     def test_readme(self):
         # A fence would be read as a line of the result above it.
