@@ -1,6 +1,7 @@
 """Ways over plain rows: for each place the list of its goals, by the letters.
 
-Where places are told as inside, they are a dict from each of these places to True.
+In some rows None stands in the place of a goal: no step may be made there. Where places are told as inside, they are
+a dict whose keys are these places.
 """
 
 
@@ -24,6 +25,26 @@ def renumbered(rows, order):
     return [[numbers[goal] for goal in rows[place]] for place in order]
 
 
+def merged(rows, kin):
+    """The rows in which places with one number in kin are one place, numbered as come to; and the least one of each.
+
+    The numbers go from 0 on; places with one number have goals with one number, letter by letter.
+    """
+    old = [kin.index(number) for number in range(max(kin) + 1)]
+    steps = [[kin[goal] for goal in rows[place]] for place in old]
+    order = places_from(steps, kin[0])
+    return renumbered(steps, order), [old[number] for number in order]
+
+
+def paired_rows(firsts, seconds):
+    """The rows of the pairs that are come to from (0, 0), numbered as come to, and the list of these pairs."""
+    many = len(seconds)
+    # The pair (first, second) is told by one number, first * many + second.
+    steps = [[goal * many + near for goal, near in zip(first, second)] for first in firsts for second in seconds]
+    order = places_from(steps, 0)
+    return renumbered(steps, order), [divmod(pair, many) for pair in order]
+
+
 def path(rows, letters, place, text):
     """The places of the walk from place by the text, one more than the letters."""
     places = [place]
@@ -32,12 +53,24 @@ def path(rows, letters, place, text):
     return places
 
 
+def walks_again(rows, letters, start, lap):
+    """The walks of one lap each that come again and again when the lap is gone from start for ever."""
+    walks = []
+    starts = [start]
+    # Behind each lap the walk stands at a place; once one of these comes again, so does all since then.
+    while starts[-1] not in starts[:-1]:
+        walks.append(path(rows, letters, starts[-1], lap))
+        starts.append(walks[-1][-1])
+    return walks[starts.index(starts[-1]):]
+
+
 def backward(rows):
     """For each place the list of the places whose goal it is."""
     back = [[] for _ in rows]
     for place, row in enumerate(rows):
         for goal in row:
-            back[goal].append(place)
+            if goal is not None:
+                back[goal].append(place)
     return back
 
 
@@ -81,20 +114,38 @@ def is_round(rows, back, places):
 def greatest_rings(rows, places):
     """The sorted list of the greatest ones of the rings with no other places than these."""
     back = backward(rows)
-    inside = {place: True for place in places}
-    order = sorted(inside)
+    left = {place: True for place in places}
     found = []
-    done = {}
-    for place in order:
-        if place not in done:
-            ahead = reached(rows, place, inside)
-            behind = reached(back, place, inside)
-            ring = [near for near in order if near in ahead and near in behind]
-            for near in ring:
-                done[near] = True
+    order = _as_left(rows, left)
+    # What leads to the place that was left last is led to by it, too: otherwise it would have been left later.
+    for place in order[::-1]:
+        if place in left:
+            ring = sorted(reached(back, place, left))
+            # A place that no way leads back to is in no ring.
+            for near in ring or [place]:
+                del left[near]
             if ring:
                 found.append(tuple(ring))
-    return found
+    return sorted(found)
+
+
+def _as_left(rows, inside):
+    """The places inside in the sequence in which a walk that always goes on first, and then back, leaves them."""
+    order = []
+    met = {}
+    for start in inside:
+        stack = [(start, False)]
+        while stack:
+            place, is_left = stack.pop()
+            if is_left:
+                order.append(place)
+            elif place not in met:
+                met[place] = True
+                stack.append((place, True))
+                for goal in rows[place]:
+                    if goal in inside and goal not in met:
+                        stack.append((goal, False))
+    return order
 
 
 def all_rings(rows):
@@ -106,17 +157,31 @@ def all_rings(rows):
     return sorted([lot for lot in lots if lot and is_round(rows, back, lot)])
 
 
+def least_text(rows, letters, place):
+    """The least text that leads to this place from place 0."""
+    if place == 0:
+        return ""
+    return first_texts(rows, letters, 0, {near: True for near in range(len(rows))})[place]
+
+
 def round_text(rows, letters, ring, place):
-    """A lap of the ring at this place: always on to a nearest place that is left, and back in the end."""
-    inside = {near: True for near in ring}
-    left = [near for near in ring if near != place]
+    """A lap of the ring at this place."""
+    # Between now and a nearest place left there are only places that were met, so the lap of 120 places
+    # has at most 1 + 2 + .. + 119 letters and 119 back, fewer than a Word may have.
+    return tour(rows, letters, {near: near for near in ring}, place, place)
+
+
+def tour(rows, letters, marks, start, home):
+    """A text from start through places of marks alone to home that meets a place of each mark.
+
+    It goes always on to a nearest place of a mark that is left, and to home in the end.
+    """
+    left = [mark for mark in sorted(set(list(marks.values()))) if mark != marks[start]]
     text = ""
-    now = place
+    now = start
     while left:
-        # Between now and a nearest place left there are only places that were met, so the lap of 120 places
-        # has at most 1 + 2 + .. + 119 letters and 119 back, fewer than a Word may have.
-        texts = first_texts(rows, letters, now, inside)
-        now = [near for near in texts if near in left][0]
+        texts = first_texts(rows, letters, now, marks)
+        now = [near for near in texts if marks[near] in left][0]
         text = text + texts[now]
-        left = [near for near in left if near != now]
-    return text + first_texts(rows, letters, now, inside)[place]
+        left = [mark for mark in left if mark != marks[now]]
+    return text + first_texts(rows, letters, now, marks)[home]

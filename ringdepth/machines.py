@@ -3,7 +3,7 @@
 from ringdepth.basics import are_letters
 from ringdepth.checks import check_letter, check_place, check_same_letters, check_text, is_list, is_place
 from ringdepth.errors import InvalidLetters, InvalidRows, TooMany
-from ringdepth.graphs import first_texts, path, places_from, renumbered
+from ringdepth.graphs import least_text, paired_rows, path, places_from, renumbered, walks_again
 from ringdepth.words import check_word
 
 
@@ -68,22 +68,13 @@ class Machine:
     def first_text(self, place):
         """The least text that leads to this place from place 0."""
         check_place(place, len(self._rows))
-        if place == 0:
-            return ""
-        inside = {near: True for near in range(len(self._rows))}
-        return first_texts(self._rows, self._letters, 0, inside)[place]
+        return least_text(self._rows, self._letters, place)
 
     def met(self, word):
         """The tuple of the places that the word meets, rising."""
         check_word(word, self._letters)
-        places = []
-        starts = [self.goes(0, word.begin)]
-        # Behind each lap the walk stands at a place; once one of these comes again, so does all since then.
-        while starts[-1] not in starts[:-1]:
-            places.append(path(self._rows, self._letters, starts[-1], word.lap))
-            starts.append(places[-1][-1])
-        again = starts.index(starts[-1])
-        return tuple(sorted({place for walk in places[again:] for place in walk}))
+        walks = walks_again(self._rows, self._letters, self.goes(0, word.begin), word.lap)
+        return tuple(sorted({place for walk in walks for place in walk}))
 
     def numbered(self):
         """The same machine, numbered as come to."""
@@ -98,13 +89,8 @@ class Machine:
 def paired(one, other):
     """A tuple of the paired machine and the list of the pairs of places, as they are numbered."""
     check_same_letters(one, other)
-    firsts = one.rows()
-    seconds = other.rows()
-    many = len(seconds)
-    # The pair (first, second) is told by one number, first * many + second.
-    steps = [[goal * many + near for goal, near in zip(first, second)] for first in firsts for second in seconds]
-    order = places_from(steps, 0)
-    return Machine(one.letters, renumbered(steps, order)), [divmod(pair, many) for pair in order]
+    rows, pairs = paired_rows(one.rows(), other.rows())
+    return Machine(one.letters, rows), pairs
 
 
 def _check_rows(letters, rows):

@@ -20,7 +20,7 @@ def rings_within(machine, ring):
     """The sorted list of the rings with no other places than this one, itself among them."""
     check_ring(machine, ring)
     _check_few(machine)
-    return [near for near in all_rings(machine.rows()) if all([place in ring for place in near])]
+    return [near for near in all_rings(machine.rows()) if lies_in(near, ring)]
 
 
 def is_ring(machine, value):
@@ -29,6 +29,11 @@ def is_ring(machine, value):
         return False
     rows = machine.rows()
     return list(value) == sorted(value) and is_round(rows, backward(rows), value)
+
+
+def lies_in(one, other):
+    """Whether one ring has no other places than the other one."""
+    return all([place in other for place in one])
 
 
 def parts(machine):
@@ -56,6 +61,11 @@ def joined_ring(machine, one, other):
     """The ring of all places of two rings; None if they have no common place."""
     check_ring(machine, one)
     check_ring(machine, other)
+    return together(one, other)
+
+
+def together(one, other):
+    """The ring of all places of two rings of one machine; None if they have no common place."""
     if not [place for place in one if place in other]:
         return None
     return tuple(sorted(set(one + other)))

@@ -106,6 +106,11 @@ class Wish:
         return isinstance(value, tuple) and all([is_integer(place) for place in value]) and value in self._kinds
 
 
+def ring_kinds(wish):
+    """The dict from all rings of the wish, sorted, to whether they are good."""
+    return {ring: wish[ring] for ring in sorted(wish.good() + wish.bad())}
+
+
 def _check_lots(value, many):
     """Raises InvalidLots unless the value is a list of lots of so many places."""
     if not is_list(value):

@@ -3,6 +3,7 @@
 Words are walked letter by letter, rings are found by trying all sets of places, pairs by trying all pairs.
 """
 
+from functools import lru_cache
 from itertools import product
 
 
@@ -134,12 +135,18 @@ def is_ring(rows, places):
 
 def rings(rows):
     """The sorted list of all rings, by trying all sets of places."""
+    return list(_rings(tuple(tuple(row) for row in rows)))
+
+
+@lru_cache(maxsize=None)
+def _rings(rows):
+    """The same list as a tuple, kept for the next time."""
     found = []
     for taken in product([False, True], repeat=len(rows)):
         places = tuple(place for place, is_in in enumerate(taken) if is_in)
         if is_ring(rows, places):
             found.append(places)
-    return sorted(found)
+    return tuple(sorted(found))
 
 
 def greatest(found):

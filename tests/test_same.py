@@ -8,23 +8,10 @@ from ringdepth.same import are_alike, beyond, classes, is_parting, is_same, join
 from ringdepth.wishes import Wish
 from ringdepth.words import Word
 from tests import plain
-from tests.cases import LAST, Case, granted, small_rows, some_pairs, some_wishes
+from tests.cases import LAST, Case, granted, small_rows, some_pairs, some_wishes, spread
 
 BOTH = Wish(LAST, [[0, 1]])
 INFINITE = Wish(LAST, [[0], [0, 1]])
-
-
-def spread(wish, random):
-    """The same wish, told with a machine in which some places stand twice."""
-    rows = wish.machine.rows()
-    many = len(rows)
-    twin = random.randrange(many)
-    rows = [[many if goal == twin and random.randrange(2) else goal for goal in row] for row in rows + [rows[twin]]]
-    machine = Machine.come_to(wish.letters, rows)
-    order, _ = plain.numbered(rows, wish.letters)
-    old = [twin if place == many else place for place in order]
-    return Wish(machine, [ring for ring in plain.rings(machine.rows())
-                          if tuple(sorted({old[place] for place in ring})) in wish.good()])
 
 
 def other_letters():
