@@ -6,6 +6,7 @@ import unittest
 
 README = pathlib.Path(__file__).resolve().parent.parent / "README.md"
 
+# Where the document tells a wish by a plan, which is not built yet, the same wish stands as it is made otherwise.
 DOCUMENT = """
 >>> from ringdepth.machines import Machine, paired
 >>> from ringdepth.words import Word
@@ -37,6 +38,38 @@ DOCUMENT = """
 [True, None, False, [((0,), (0,)), ((0, 1), (0, 1)), ((1,), (1,))], [[0, 1]]]
 >>> [infinite - both, both.at(1), is_same(both.at(1), both)]
 [Wish(Machine('ab', [[0, 1], [0, 1]]), [(0,)]), Wish(Machine('ab', [[1, 0], [1, 0]]), [(0, 1)]), True]
+
+>>> from ringdepth.chains import chain, depth, is_chain, is_shown, is_weak, least_ranks
+>>> from ringdepth.nests import nest, ways, wish_of_nest
+>>> seen = Wish(once, [[1]])
+>>> [depth(both), depth(infinite), depth(Wish(last, [[0], [1]])), depth(seen), least_ranks(both), least_ranks(seen), is_weak(seen)]
+[(1, 2), (1, 2), (2, 1), (1, 1), 2, 2, True]
+>>> [len(chain(both, False)), is_chain(both, [(0,), (0, 1)]), is_shown(both, ("", ["a", "ba"])), nest(both), ways(both, 0)]
+[2, True, True, {(0,): [], (0, 1): [(0,), (1,)], (1,): []}, [[(0, 1), (0,)]]]
+>>> wish_of_nest(last, {(0, 1): False}, {(0, 1): [(1,)], (1,): []})
+Wish(Machine('ab', [[0, 1], [0, 1]]), [(1,)])
+
+>>> from ringdepth.judging import differs, is_ranked_of, own_ranks, ranked_of, spoilers
+>>> from ringdepth.ranked import Ranked, own_depth
+>>> ranked = Ranked(last, [[1, 2], [2, 1]])
+>>> [is_ranked_of(both, ranked), ranked(Word("", "ab")), ranked.used(), own_depth(ranked), differs(infinite, ranked) is None]
+[True, True, [1, 2], (1, 2), False]
+>>> mixed = Wish(Machine("abc", [[0, 1, 2], [0, 1, 2], [0, 1, 2]]), [[0, 1], [0, 2]])
+>>> [own_ranks(mixed), spoilers(mixed), depth(mixed), len(ranked_of(mixed).used())]
+[None, ((0, 1), (0, 2)), (2, 3), 3]
+
+>>> from ringdepth.guards import guard, hope, is_guard, is_hope, is_lively, settles_at
+>>> from ringdepth.settled import first_settling, how_many_open, open_for_ever, settled, watcher
+>>> [settled(seen, "b"), settled(seen, "ba"), first_settling(seen, True), first_settling(seen, False), how_many_open(seen, 3)]
+['open', 'yes', 'a', None, 1]
+>>> [open_for_ever(both), watcher(both), is_hope(seen), is_guard(seen), is_lively(seen), settles_at(seen, Word("bb", "a"))]
+[[0, 1], (Machine('ab', [[0, 0]]), ['open']), True, False, True, 3]
+>>> [guard(seen), hope(both)]
+[Wish(Machine('ab', [[1, 0], [1, 1]]), [(0,), (1,)]), Wish(Machine('ab', [[0, 1], [0, 1]]), [])]
+
+>>> from ringdepth.weak import is_least, least, passes, row
+>>> [passes(seen), row(seen, False), least(seen) == seen, is_least(seen | seen)]
+[(1, 2), [(0,), (1,)], True, True]
 """
 
 
@@ -50,7 +83,7 @@ def failures(text, name):
 class ExamplesTest(unittest.TestCase):
 
     def test_document(self):
-        self.assertEqual(failures(DOCUMENT, "document"), (0, 19))
+        self.assertEqual(failures(DOCUMENT, "document"), (0, 38))
 
     def test_readme(self):
         # A fence would be read as a line of the result above it.
