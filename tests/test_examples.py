@@ -6,7 +6,6 @@ import unittest
 
 README = pathlib.Path(__file__).resolve().parent.parent / "README.md"
 
-# Where the document tells a wish by a plan, which is not built yet, the same wish stands as it is made otherwise.
 DOCUMENT = """
 >>> from ringdepth.machines import Machine, paired
 >>> from ringdepth.words import Word
@@ -67,9 +66,20 @@ Wish(Machine('ab', [[0, 1], [0, 1]]), [(1,)])
 >>> [guard(seen), hope(both)]
 [Wish(Machine('ab', [[1, 0], [1, 1]]), [(0,), (1,)]), Wish(Machine('ab', [[0, 1], [0, 1]]), [])]
 
+>>> from ringdepth.plans import fits_plan, wish_of
 >>> from ringdepth.weak import is_least, least, passes, row
->>> [passes(seen), row(seen, False), least(seen) == seen, is_least(seen | seen)]
+>>> wide = wish_of("ab", ("and", ("again", "a"), ("again", "b")))
+>>> [wide, is_same(wide, both), wish_of("ab", ("once", "a")) == seen, fits_plan("ab", ("at last", "b"), Word("a", "b"))]
+[Wish(Machine('ab', [[1, 2], [1, 2], [1, 2]]), [(1, 2)]), True, True, True]
+>>> [passes(seen), row(seen, False), least(seen) == seen, is_least(wish_of("ab", ("or", ("once", "a"), ("once", "a"))))]
 [(1, 2), [(0,), (1,)], True, True]
+
+>>> from ringdepth.mended import bars, how_many_turned, is_mended
+>>> from ringdepth.silent import is_silent, left_out
+>>> [is_silent(seen, "b"), is_silent(seen, "a"), left_out(Word("ab", "abb"), "a")]
+[True, False, Word('', 'b')]
+>>> [how_many_turned(both, "again"), how_many_turned(both, "at last"), how_many_turned(both, "weak"), is_mended(both, "at last", [(0, 1)])]
+[0, 1, 1, True]
 """
 
 
@@ -83,7 +93,7 @@ def failures(text, name):
 class ExamplesTest(unittest.TestCase):
 
     def test_document(self):
-        self.assertEqual(failures(DOCUMENT, "document"), (0, 38))
+        self.assertEqual(failures(DOCUMENT, "document"), (0, 45))
 
     def test_readme(self):
         # A fence would be read as a line of the result above it.
