@@ -108,15 +108,23 @@ def check_ring(machine, value):
         raise InvalidRing(value)
 
 
+def first_wrong_ring(machine, values):
+    """The position of the first value that is no ring of the machine, or stands ahead; None if none is wrong."""
+    seen = {}
+    for position, value in enumerate(values):
+        if not is_ring(machine, value) or value in seen:
+            return position
+        seen[value] = True
+    return None
+
+
 def check_rings(machine, values):
     """Raises InvalidRings unless the values are a list of different rings of the machine."""
     if not is_list(values):
         raise InvalidRings(None)
-    seen = {}
-    for position, value in enumerate(values):
-        if not is_ring(machine, value) or value in seen:
-            raise InvalidRings(position)
-        seen[value] = True
+    wrong = first_wrong_ring(machine, values)
+    if wrong is not None:
+        raise InvalidRings(wrong)
 
 
 def _check_place_of(ring, value):

@@ -85,7 +85,7 @@ class Wish:
 
     def is_within(self, other):
         """Whether each word that is granted this wish is granted the other one."""
-        _check_wish(other)
+        check_wish(other)
         return first_joint(self._machine, other.machine, self.good(), other.bad()) is None
 
     def at(self, place):
@@ -111,6 +111,12 @@ def ring_kinds(wish):
     return {ring: wish[ring] for ring in sorted(wish.good() + wish.bad())}
 
 
+def check_wish(value):
+    """Raises InvalidWish unless the value is a Wish."""
+    if not isinstance(value, Wish):
+        raise InvalidWish(value)
+
+
 def _check_lots(value, many):
     """Raises InvalidLots unless the value is a list of lots of so many places."""
     if not is_list(value):
@@ -120,15 +126,9 @@ def _check_lots(value, many):
             raise InvalidLots(position)
 
 
-def _check_wish(value):
-    """Raises InvalidWish unless the value is a Wish."""
-    if not isinstance(value, Wish):
-        raise InvalidWish(value)
-
-
 def _combined(one, other, granted):
     """The wish on the paired machine whose rings are good where their kinds in both wishes are among granted."""
-    _check_wish(other)
+    check_wish(other)
     machine, pairs = paired(one.machine, other.machine)
     # Told ahead of the rings, because all sets of places of a greater machine are not to be tried.
     if len(machine) > Wish.MOST_PLACES:

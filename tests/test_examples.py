@@ -74,12 +74,28 @@ Wish(Machine('ab', [[0, 1], [0, 1]]), [(1,)])
 >>> [passes(seen), row(seen, False), least(seen) == seen, is_least(wish_of("ab", ("or", ("once", "a"), ("once", "a"))))]
 [(1, 2), [(0,), (1,)], True, True]
 
+>>> from ringdepth.edits import joined, split
 >>> from ringdepth.mended import bars, how_many_turned, is_mended
 >>> from ringdepth.silent import is_silent, left_out
 >>> [is_silent(seen, "b"), is_silent(seen, "a"), left_out(Word("ab", "abb"), "a")]
 [True, False, Word('', 'b')]
 >>> [how_many_turned(both, "again"), how_many_turned(both, "at last"), how_many_turned(both, "weak"), is_mended(both, "at last", [(0, 1)])]
 [0, 1, 1, True]
+>>> [joined(wide, 0, 1) == both, split(seen, 1, [(0, "a")])]
+[True, Wish(Machine('ab', [[2, 0], [1, 1], [1, 1]]), [(1,)])]
+
+>>> from ringdepth.claims import is_paper, is_true, paper_of
+>>> from ringdepth.desk import Desk, tried
+>>> from ringdepth.texts import read_wish, text_of
+>>> [text_of(both), read_wish(text_of(both)) == both, text_of(ranked)]
+['letters ab\\nfrom 0 to 0 1\\nfrom 1 to 0 1\\ngood 0 1\\n', True, 'ranked ab\\nfrom 0 to 0 1 1 2\\nfrom 1 to 0 2 1 1\\n']
+>>> [is_true(("chain", both, False, 2)), paper_of(("own", both)) is None, is_paper(("no chain", both, True, 2), ranked), is_true(("loud", seen, "b"))]
+[True, False, True, False]
+>>> desk = Desk(both)
+>>> [desk.do("depth"), desk.do_all("set bad 0 1", "depth"), desk.do("granted - ba"), tried(desk, lambda held: held.do("undo")), len(desk)]
+['1 2', ['done', '0 1'], 'no', 'done', 1]
+>>> [desk.undo(), desk.wish == both, desk.do("kind 0 1"), (0,) in desk, desk.do("settled -")]
+[None, True, 'good', False, 'open']
 """
 
 
@@ -93,7 +109,7 @@ def failures(text, name):
 class ExamplesTest(unittest.TestCase):
 
     def test_document(self):
-        self.assertEqual(failures(DOCUMENT, "document"), (0, 45))
+        self.assertEqual(failures(DOCUMENT, "document"), (0, 55))
 
     def test_readme(self):
         # A fence would be read as a line of the result above it.
