@@ -22,14 +22,15 @@ def mended(wish, sort):
         return _lesser_kinds(wish)
     greater = _greater(wish, sort)
     mates = _mates(greater)
-    asked = {}
+    # A lesser ring without a mate is kept as it is. So all greater ones beside it are turned, so the mates of these
+    # are kept, too, and so on.
+    turned = {}
     kept = [one for one in greater if one not in list(mates.values())]
     for one in kept:
-        # No mate can be found any more; this tells all greater rings that lesser ones would be asked to give way for.
-        _find_mate(greater, mates, one, asked)
-    kept = kept + [mates[other] for other in asked]
-    # Of each bar just one ring is turned: the greater one if it was asked, otherwise the lesser one.
-    return sorted([one for one in greater if one not in kept] + list(asked))
+        # It finds no mate here, but goes through just these greater rings.
+        _find_mate(greater, mates, one, turned)
+    kept = kept + [mates[other] for other in turned]
+    return sorted([one for one in greater if one not in kept] + list(turned))
 
 
 def is_mended(wish, sort, rings):

@@ -95,4 +95,4 @@ def _fits(plan, coming, again):
     asked = coming if word in ("always", "once") else again
     if word in ("always", "at last"):
         return is_text_over(asked, some)
-    return not all([letter not in some for letter in asked])
+    return any([letter in some for letter in asked])

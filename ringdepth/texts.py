@@ -120,7 +120,8 @@ def _read_lots(lines, first):
     ahead = []
     for line in lines[first - 1:]:
         words = line.split(" ")
-        # Numerals are compared by their length first, so they may have any number of digits.
+        # Numerals are compared by their length first, so they may have any number of digits. No counts at all are
+        # never above those ahead.
         counts = [(len(word), word) for word in words[1:]]
         if words[0] != RING_WORD or not _are_rising(counts) or counts <= ahead:
             raise InvalidLine(first + len(lots))
@@ -131,10 +132,8 @@ def _read_lots(lines, first):
 
 
 def _are_rising(counts):
-    """Whether one or more tuples (length, numeral) tell rising COUNTS without needless zeros."""
-    if not all([_is_numeral(word) for _, word in counts]):
-        return False
-    return len(counts) > 0 and counts == sorted(set(counts))
+    """Whether tuples (length, numeral) tell rising COUNTS, perhaps none."""
+    return all([_is_numeral(word) for _, word in counts]) and counts == sorted(set(counts))
 
 
 def _is_numeral(word):

@@ -287,11 +287,27 @@ class PaperTest(Case):
         self.gives(True, is_paper, claim=claim, value=tuple(right))
         for value in [right[::-1], right[:2], right + right[:1], [list(pair) for pair in right], [((False,), (0,))] + right[1:],
                       [([0], [0])] + right[1:], right[:2] + [((1,), (True,))], right + [((1,), (0,))], [], None,
-                      right[:1] + [((0, 1), (0, 1), (0, 1))] + right[2:]]:
+                      right[:1] + [((0, 1), (0, 1), (0, 1))] + right[2:], [plain.Hostile()] * 3, right[:2] + [plain.Hostile()],
+                      right[:2] + [((1,), plain.Hostile())]]:
             self.gives(False, is_paper, claim=claim, value=value)
         # All joint rings show nothing if the claim is not true.
         self.gives(False, is_paper, claim=("within", claim[2], BOTH), value=right)
         self.gives(None, paper_of, claim=("within", claim[2], BOTH))
+
+    def test_words_beyond(self):
+        answers = []
+        for claim in claims_about_two(1433, 40):
+            if claim[0] == "not within" and is_true(claim):
+                one, other = claim[1:]
+                for begin, lap in plain.words(one.letters, 1, 2):
+                    kinds = granted(one, begin, lap), granted(other, begin, lap)
+                    answers.append(kinds)
+                    self.gives(kinds == (True, False), is_paper, claim=claim, value=Word(begin, lap))
+        for kinds in [(one, other) for one in (True, False) for other in (True, False)]:
+            self.assertGreater(answers.count(kinds), 30)
+        claim = ("not within", Wish(LAST, [[0], [0, 1]]), BOTH)
+        self.gives(True, is_paper, claim=claim, value=Word("b", "a"))
+        self.gives(False, is_paper, claim=claim, value=Word("c", "a"))
 
     def test_mended(self):
         claim = ("mended", ~BOTH, "again", 1)

@@ -139,6 +139,16 @@ class MendedTest(Case):
         self.assertEqual([how_many_turned(two, sort) for sort in SORTS], [fewest(plain_depth.ring_kinds(two), sort)
                                                                         for sort in SORTS])
 
+    def test_rings_of_several_parts(self):
+        # The parts lie in one another's numbers.
+        machine = Machine("abc", [[0, 3, 1], [1, 2, 2], [1, 2, 2], [0, 3, 1]])
+        wish = Wish(machine, [[3], [1]])
+        self.assertEqual(mended(wish, "weak"), [(1,), (3,)])
+        self.assertEqual(mended(~wish, "weak"), [(1,), (3,)])
+        self.assertEqual(mended(Wish(machine, [[0, 3], [0], [2]]), "weak"), [(2,), (3,)])
+        self.assertEqual(mended(Wish(machine, [[0, 3], [1, 2]]), "at last"), [(0, 3), (1, 2)])
+        self.assertEqual(mended(Wish(machine, [[0], [1], [2], [3]]), "again"), [(0, 3), (1, 2)])
+
     def test_sorts_of_plans(self):
         for plan, sorts in [(("once", "a"), SORTS), (("always", "b"), SORTS), (("again", "a"), ["again"]),
                             (("at last", "a"), ["at last"]), (("and", ("again", "a"), ("again", "b")), ["again"]),

@@ -301,7 +301,9 @@ class AreLoudTest(Case):
                 for begin, lap in some_words(random, wish.letters, 6):
                     other = stammered(random, begin, lap, letter)
                     other = other if other[1] else ("", letter)
-                    for one, second in [((begin, lap), other), (other, (begin, lap)), ((begin, lap), (begin, lap))]:
+                    (third,) = some_words(random, wish.letters, 1)
+                    for one, second in [((begin, lap), other), (other, (begin, lap)), ((begin, lap), (begin, lap)),
+                                        ((begin, lap), third), (third, (begin, lap))]:
                         expected = are_loud_plainly(wish, letter, one, second)
                         self.gives(expected, are_loud, wish=wish, letter=letter, value=(Word(*one), Word(*second)))
                         answers.append(expected)

@@ -309,6 +309,10 @@ class ReadingTest(Case):
         self.wrong(True, 7, circle(7))
         self.wrong(True, 8, circle(6).replace("to 0", "to 5") + "from 6 to 0\n")
         self.wrong(True, 8, circle(6) + "from 6 to 0\n")
+        # The line of a seventh place is wrong by itself, so it is told ahead of a place that is not come to.
+        self.wrong(True, 8, circle(6).replace("from 2 to 3", "from 2 to 0") + "from 6 to 0\n")
+        self.wrong(True, 5, circle(6).replace("from 2 to 3", "from 2 to 0"))
+        self.wrong(True, 8, circle(6) + "from 6 to 0\ngood x\n")
         self.wrong(True, 7, circle(6, 6))
         self.wrong(True, 6, circle(5, 5))
 
@@ -334,6 +338,7 @@ class ReadingTest(Case):
         self.assertEqual((len(found.machine), text_of(found)), (120, circle(120)))
         self.wrong(False, 121, circle(121))
         self.wrong(False, 122, circle(120) + "from 120 to 0 0\n")
+        self.wrong(False, 122, circle(120).replace("from 2 to 3", "from 2 to 0") + "from 120 to 0 0\n")
         self.wrong(False, 121, circle(120, 120))
         self.wrong(False, 120, circle(119, 119))
 
