@@ -108,7 +108,7 @@ def _plain(begin, lap):
     # Letters at the end of the begin that go round with the lap belong to the lap.
     while spare < len(begin) and begin[-1 - spare] == short[-1 - int(spare) % len(short)]:
         spare = spare + 1
-    turn = len(short) - spare % len(short)
+    turn = len(short) - int(spare) % len(short)
     return begin[:len(begin) - spare], short[turn:] + short[:turn]
 
 
